@@ -1,0 +1,1 @@
+"""Keel: a ship's cargo, kept upright."""
