@@ -62,13 +62,16 @@ def fits(words, form):
     return True
 
 
+def parts_of_words(words, form):
+    return tuple([int(word) if sort == "n" else word for word, sort in zip(words, form)])
+
+
 def read_line(line, number):
     words = line.split(" ")
     first = words[0]
     if not may_stand_at(first, number) or not fits(words[1:], FORMS[first]):
         raise NoLine(number)
-    parts = [int(word) if sort == "n" else word for word, sort in zip(words[1:], FORMS[first])]
-    return (first, tuple(parts))
+    return (first, parts_of_words(words[1:], FORMS[first]))
 
 
 def read_lines(text):
